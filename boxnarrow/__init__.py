@@ -1,0 +1,1 @@
+"""Boxnarrow: answers of rows shut into boxes, with papers."""

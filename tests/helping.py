@@ -1,0 +1,37 @@
+"""What several tests ask for."""
+
+from boxnarrow import errors
+
+REFUSALS = (
+    errors.NoNumber, errors.NoSpan, errors.NoCut, errors.NoRow,
+    errors.TooMuch, errors.NoTask, errors.NoBook, errors.NoName,
+)
+
+# 400 figures each; no number above 1 divides both (one is the other and 1).
+LONG = 10 ** 399 + 7
+LONGER = LONG + 1
+
+
+def refused(case, error, call, *given):
+    """Fails unless call(*given) is refused with the class error, and answers the refusal."""
+    with case.assertRaises(ValueError) as caught:
+        call(*given)
+    refusal = caught.exception
+    case.assertIsInstance(refusal, errors.BoxError)
+    case.assertEqual([kind for kind in REFUSALS if isinstance(refusal, kind)], [error])
+    return refusal
+
+
+def is_int(value):
+    return type(value) is int
+
+
+def check_pair(case, value):
+    """Fails unless value is a tuple of two plain ints."""
+    case.assertIs(type(value), tuple)
+    case.assertEqual([is_int(part) for part in value], [True, True])
+
+
+def check_span(case, value):
+    check_pair(case, value)
+    case.assertLessEqual(value[0], value[1])
