@@ -35,3 +35,23 @@ def check_pair(case, value):
 def check_span(case, value):
     check_pair(case, value)
     case.assertLessEqual(value[0], value[1])
+
+
+def check_tree(case, value):
+    """Fails unless value is a tree of plain tuples, texts and ints."""
+    case.assertIs(type(value), tuple)
+    kind = value[0]
+    case.assertIs(type(kind), str)
+    if kind == "number":
+        check_pair(case, value[1:])
+    elif kind == "name":
+        case.assertEqual([type(part) for part in value[1:]], [str])
+    elif kind == "power":
+        case.assertEqual(len(value), 3)
+        check_tree(case, value[1])
+        case.assertTrue(is_int(value[2]))
+    else:
+        case.assertIn(kind, ("plus", "minus", "times"))
+        case.assertEqual(len(value), 3)
+        check_tree(case, value[1])
+        check_tree(case, value[2])

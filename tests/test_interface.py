@@ -3,7 +3,7 @@
 import inspect
 import unittest
 
-from boxnarrow import errors, fractions, spans
+from boxnarrow import backs, errors, fractions, grammar, nets, spans, words
 
 ARGUMENTS = (
     (fractions, (
@@ -17,15 +17,20 @@ ARGUMENTS = (
         ("deep", ["a", "b"]), ("width", ["a"]), ("middle", ["a"]), ("halves", ["a"]),
     )),
     (errors, (("NoName", ["word"]),)),
+    (backs, (("back_times", ["z", "x", "y", "grid"]), ("back_power", ["z", "x", "many", "grid"]))),
+    (words, (("number_of", ["word"]), ("written", ["a"]), ("is_name", ["word"]))),
+    (grammar, (("tree_of", ["words"]),)),
+    (nets, (("Net", []), ("shown", ["nodes", "at", "names"]))),
+    (nets.Net, (("put", ["self", "node"]), ("nodes", ["self"]), ("weight", ["self", "at"]))),
 )
 
 
 class Arguments(unittest.TestCase):
     def test_arguments(self):
-        for module, wanted in ARGUMENTS:
+        for holder, wanted in ARGUMENTS:
             for name, arguments in wanted:
                 with self.subTest(name=name):
-                    found = inspect.signature(getattr(module, name)).parameters
+                    found = inspect.signature(getattr(holder, name)).parameters
                     self.assertEqual(list(found), arguments)
 
 

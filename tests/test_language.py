@@ -1,6 +1,6 @@
 """The rules of LANGUAGE.md that can be seen in the package's files one by one.
 
-It sees the plainest of them, not all: L1 to L10, L12, L14, L16, L17, L20, L21, L25 and L27 in part.
+It sees the plainest of them, not all: L1 to L10, L12, L14 to L18, L20, L21, L25, L26 and L27 in part.
 Point 2 hangs on it, too: what draws from the package alone has no clock, chance or files.
 """
 
@@ -33,6 +33,10 @@ METHODS = set("""
     split splitlines startswith strip update upper values zfill bit_length
 """.split())
 PYTHONS = set(vars(builtins))
+# The methods and values of Python's own kinds, and of them those that a method, or a value, may be called like.
+TAKEN = {name for kind in (str, int, list, tuple, dict, set, bytes) for name in dir(kind) if not name.startswith("__")}
+FREE_METHODS = METHODS | {"add", "discard"}
+FREE_VALUES = set("count index title find get join lower upper split strip copy add".split())
 SPECIAL = ("__init__", "__eq__", "__repr__", "__str__", "__len__")
 WORDS = re.compile(
     r"\b(type|typing|typing_extensions|enum|Enum|IntEnum|StrEnum|Flag|IntFlag|Generic|Protocol|ABC|ABCMeta|namedtuple"
@@ -126,8 +130,40 @@ def name_faults(node, methods):
             yield f"L25 {node.func.attr}"
 
 
+def kept_at_the_top(tree):
+    """The names of a file's top that are given a list or a dict."""
+    return [
+        target.id
+        for node in tree.body if isinstance(node, ast.Assign) and isinstance(node.value, (ast.List, ast.Dict))
+        for target in node.targets if isinstance(target, ast.Name)
+    ]
+
+
+def only_read(node, above):
+    """Whether the name node, of a list or dict, is only read in what stands straight above it."""
+    if isinstance(above, ast.Subscript):
+        return above.value is node and isinstance(above.ctx, ast.Load)
+    if isinstance(above, ast.Attribute):
+        return above.attr in ("get", "items", "keys", "values", "index", "count", "copy")
+    if isinstance(above, ast.Call):
+        return isinstance(above.func, ast.Name) and above.func.id in BUILTINS
+    if isinstance(above, (ast.For, ast.comprehension)):
+        return above.iter is node
+    return isinstance(above, ast.Compare)
+
+
+def handing_faults(tree):
+    kept = kept_at_the_top(tree)
+    for above in ast.walk(tree):
+        for node in ast.iter_child_nodes(above):
+            if isinstance(node, ast.Name) and isinstance(node.ctx, ast.Load) and node.id in kept:
+                if not only_read(node, above):
+                    yield f"L15 {node.id} is not only read"
+
+
 def tree_faults(text, methods):
     tree = ast.parse(text)
+    yield from handing_faults(tree)
     body = tree.body
     if ast.get_docstring(tree) is not None:
         body = body[1:]
@@ -160,6 +196,15 @@ def own_methods(texts):
         part.name
         for text in texts.values() for node in ast.parse(text).body if isinstance(node, ast.ClassDef)
         for part in node.body if isinstance(part, ast.FunctionDef)
+    }
+
+
+def own_values(texts):
+    """The names of the values that objects are given."""
+    return {
+        node.attr
+        for text in texts.values() for node in ast.walk(ast.parse(text))
+        if isinstance(node, ast.Attribute) and isinstance(node.ctx, ast.Store)
     }
 
 
@@ -196,6 +241,15 @@ class Files(unittest.TestCase):
             with self.subTest(file=stem):
                 self.assertEqual(faults(text, own_methods(texts)), [])
 
+    def test_methods_and_values(self):
+        texts = package_texts()
+        methods = own_methods(texts) - set(SPECIAL)
+        values = own_values(texts)
+        self.assertEqual(methods & values, set(), "L18")
+        self.assertEqual(methods & TAKEN - FREE_METHODS, set(), "L26")
+        self.assertEqual(values & TAKEN - FREE_VALUES, set(), "L26")
+        self.assertEqual([name for name in methods | values if name.startswith("_")], [], "L12")
+
     def test_each_name_is_bound_once(self):
         for stem, text in package_texts().items():
             with self.subTest(file=stem):
@@ -230,6 +284,8 @@ class Sight(unittest.TestCase):
             ("L8", "def f(a):\n    return hash(a)\n"), ("L8", "def f(a):\n    return open(a)\n"),
             ("L10", "X = 1\n" * 401), ("L10", "# " + "x" * 120 + "\n"), ("L12", "def _f(a):\n    return a\n"),
             ("L10", "def f(a):\n" + "    a = a + 1\n" * 40), ("L14", "X = 1\t\n"), ("L15", "def f(id):\n    return 1\n"),
+            ("L15", "X = {1: 2}\n\n\ndef f(a):\n    return a(X)\n"), ("L15", "X = [1]\n\n\ndef f(a):\n    return X\n"),
+            ("L15", "X = [1]\n\n\ndef f(a):\n    X[0] = a\n"), ("L15", "X = [1]\n\n\ndef f(a):\n    X.append(a)\n"),
             ("L17", "# its type\n"), ("L20", "def f(a, b):\n    return a is b\n"),
             ("L21", "def f(a: int):\n    return a\n"), ("L25", "def f(a):\n    a.sort()\n"),
             ("L27", "def f(a, b):\n    return a ** b\n"), ("L27", "X = 'a % b'\n"),
@@ -241,6 +297,10 @@ class Sight(unittest.TestCase):
     def test_plain_code_is_let_through(self):
         text = '"""A file."""\n\nfrom boxnarrow.errors import NoRow\n\n\ndef f(a):\n    if a is None:\n' \
                '        raise NoRow("none")\n    return [x ** 2 for x in sorted(a) if x > 0]\n'
+        self.assertEqual(faults(text), [])
+
+    def test_lists_of_the_top_may_be_read(self):
+        text = 'X = {1: 2}\n\n\ndef f(a):\n    return [X[a], a in X, len(X), dict(X), X.get(a), [b for b in X]]\n'
         self.assertEqual(faults(text), [])
 
 
