@@ -55,3 +55,19 @@ def check_tree(case, value):
         case.assertEqual(len(value), 3)
         check_tree(case, value[1])
         check_tree(case, value[2])
+
+
+def check_spans(case, value, many):
+    """Fails unless value is a list of so many spans."""
+    case.assertIs(type(value), list)
+    case.assertEqual(len(value), many)
+    for span in value:
+        check_span(case, span)
+
+
+def check_tuples(case, value):
+    """Fails unless value is a list of plain tuples, each of a text and then ints, as nodes and rows are."""
+    case.assertIs(type(value), list)
+    for part in value:
+        case.assertIs(type(part), tuple)
+        case.assertEqual([type(piece) for piece in part], [str] + [int] * (len(part) - 1))

@@ -2,50 +2,14 @@
 
 import random
 import unittest
-from fractions import Fraction
-from math import ceil, floor
 
 from boxnarrow.backs import back_power, back_times
 from tests.helping import check_span
+from tests.otherwise import power_otherwise, times_otherwise
 
 SMALL = [(low, high) for low in range(-3, 4) for high in range(low, 4)]
 GRIDS = (1, 2, 3, 1000000)
 FORTY = 10 ** 39 + 7
-
-
-def product_meets(a, y, products):
-    """Whether the number a of steps, times some number of y, is one of the products (counted in steps by steps)."""
-    ends = (a * y[0], a * y[1])
-    return min(ends) <= products[1] and products[0] <= max(ends)
-
-
-def times_otherwise(z, x, y, grid):
-    """The way back through the product, by asking of each place where it could begin or end whether it is one."""
-    products = (z[0] * grid, z[1] * grid)
-    places = [Fraction(end) for end in x]
-    places += [Fraction(product, end) for product in products for end in y if end != 0]
-    found = [place for place in places if x[0] <= place <= x[1] and product_meets(place, y, products)]
-    if not found:
-        return None
-    return (floor(min(found)), ceil(max(found)))
-
-
-def power_otherwise(z, x, many, grid):
-    """The way back through the power, step by step of x: at the step itself, and between it and the next one."""
-    scale = grid ** (many - 1)
-    low, high = z[0] * scale, z[1] * scale
-    ends = []
-    for place in range(x[0], x[1] + 1):
-        if low <= place ** many <= high:
-            ends.append(place)
-        if place < x[1]:
-            # No step but 0 itself parts falling powers from rising ones, so between two steps they do one of both.
-            powers = sorted([place ** many, (place + 1) ** many])
-            if powers[0] < high and low < powers[1]:
-                ends += [place, place + 1]
-    if not ends:
-        return None
-    return (min(ends), max(ends))
 
 
 class BackCase(unittest.TestCase):

@@ -6,50 +6,13 @@ import unittest
 from boxnarrow import errors
 from boxnarrow.grammar import tree_of
 from tests.helping import check_tree, refused
+from tests.otherwise import tree_otherwise
 
 A = ("name", "a")
 B = ("name", "b")
 C = ("name", "c")
 D = ("name", "d")
 TWO = ("number", 2, 1)
-KINDS = {"+": "plus", "-": "minus", "*": "times"}
-
-
-def split_at(words, signs):
-    """The last place, outside of all brackets, where one of signs stands; None where there is none."""
-    depth = 0
-    for place in reversed(range(len(words))):
-        depth += (words[place] == ")") - (words[place] == "(")
-        if depth == 0 and words[place] in signs:
-            return place
-    return None
-
-
-def otherwise(words):
-    """The tree of words, or None, found from behind: what is made last is parted first.
-
-    It knows one small letter and numbers of one figure alone, and no bounds.
-    """
-    place = split_at(words, ("+", "-"))
-    if place is None:
-        place = split_at(words, ("*",))
-    if place is not None:
-        parts = (otherwise(words[:place]), otherwise(words[place + 1:]))
-        return None if None in parts else (KINDS[words[place]],) + parts
-    if len(words) > 2 and words[-2] == "^":
-        part = atom_otherwise(words[:-2])
-        return ("power", part, int(words[-1])) if part and words[-1] in tuple("23456") else None
-    return atom_otherwise(words)
-
-
-def atom_otherwise(words):
-    if len(words) > 2 and words[0] == "(" and words[-1] == ")":
-        return otherwise(words[1:-1])
-    if len(words) == 1 and words[0] in tuple("0123456789"):
-        return ("number", int(words[0]), 1)
-    if len(words) == 1 and words[0].isalpha():
-        return ("name", words[0])
-    return None
 
 
 class TreeCase(unittest.TestCase):
@@ -168,11 +131,11 @@ class Bounds(TreeCase):
         for many, first, last in ((60, "a", "a"), (59, "( a )", "a"), (59, "a", "a ^ 2"), (58, "( a )", "( a )")):
             text = " - ".join([first] + ["a"] * (many - 2) + [last])
             self.assertEqual(len(text.split(" ")), 119)
-            self.check(text, otherwise(text.split(" ")))
+            self.check(text, tree_otherwise(text.split(" ")))
             longer = (f"{text} - a", f"a * {text}", f"( {text} )")
             for other in longer:
                 self.assertEqual(len(other.split(" ")), 121)
-                self.assertIsNotNone(otherwise(other.split(" ")))
+                self.assertIsNotNone(tree_otherwise(other.split(" ")))
             self.check_refused(*longer)
             self.check_refused(f"{text} -", f"- {text}", f"{text} a", f"{text} )", f"( {text}")
 
@@ -213,7 +176,7 @@ class Refused(TreeCase):
 
     def test_a_word_left_out_or_doubled(self):
         words = "a - ( b + 2 ) ^ 3 * ( ( c ) - d * 5 ) + a * b ^ 2".split(" ")
-        self.check(" ".join(words), otherwise(words))
+        self.check(" ".join(words), tree_otherwise(words))
         for place in range(len(words)):
             self.check_refused(" ".join(words[:place] + words[place + 1:]))
             self.check_refused(" ".join(words[:place + 1] + words[place:]))
@@ -223,7 +186,7 @@ class Refused(TreeCase):
         told = 0
         for one, other in itertools.combinations(range(len(words)), 2):
             near = [word for place, word in enumerate(words) if place not in (one, other)]
-            wanted = otherwise(near)
+            wanted = tree_otherwise(near)
             if wanted is None:
                 self.check_refused(" ".join(near))
             else:
@@ -241,7 +204,7 @@ class Otherwise(unittest.TestCase):
                 answer = tree_of(list(words))
             except errors.NoRow:
                 answer = None
-            self.assertEqual(answer, otherwise(words), words)
+            self.assertEqual(answer, tree_otherwise(words), words)
             told += answer is not None
         return told
 

@@ -3,8 +3,12 @@
 import inspect
 import unittest
 
-from boxnarrow import backs, errors, fractions, grammar, nets, spans, words
+from boxnarrow import backs, errors, fractions, grammar, kinds, narrow, nets, spans, tasks, words, worths
 
+OF_A_NODE = (
+    ("exact", ["self", "worths", "point"]), ("forth", ["self", "spans", "box", "grid"]),
+    ("back", ["self", "spans", "here", "grid"]),
+)
 ARGUMENTS = (
     (fractions, (
         ("fraction", ["top", "bottom"]), ("plus", ["a", "b"]), ("minus", ["a", "b"]), ("times", ["a", "b"]),
@@ -22,6 +26,21 @@ ARGUMENTS = (
     (grammar, (("tree_of", ["words"]),)),
     (nets, (("Net", []), ("shown", ["nodes", "at", "names"]))),
     (nets.Net, (("put", ["self", "node"]), ("nodes", ["self"]), ("weight", ["self", "at"]))),
+    (tasks, (("Task", []), ("read", ["lines"]))),
+    (tasks.Task, (
+        ("tell", ["self", "line"]), ("names", ["self"]), ("ends", ["self"]), ("nodes", ["self"]), ("rows", ["self"]),
+    )),
+    (kinds, (
+        ("Node", []), ("Number", ["top", "bottom"]), ("Unknown", ["place"]), ("Plus", ["one", "other"]),
+        ("Minus", ["one", "other"]), ("Times", ["one", "other"]), ("Power", ["one", "many"]), ("kind_of", ["node"]),
+    )),
+    (kinds.Number, OF_A_NODE), (kinds.Unknown, OF_A_NODE), (kinds.Plus, OF_A_NODE), (kinds.Minus, OF_A_NODE),
+    (kinds.Times, OF_A_NODE), (kinds.Power, OF_A_NODE),
+    (worths, (
+        ("exacts", ["nodes", "point"]), ("worths", ["nodes", "box", "grid"]), ("met", ["word", "a"]),
+        ("bars", ["word", "span"]), ("sure", ["word", "span"]),
+    )),
+    (narrow, (("narrowed", ["nodes", "row", "box", "grid"]),)),
 )
 
 

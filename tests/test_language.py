@@ -1,6 +1,6 @@
 """The rules of LANGUAGE.md that can be seen in the package's files one by one.
 
-It sees the plainest of them, not all: L1 to L10, L12, L14 to L18, L20, L21, L25, L26 and L27 in part.
+It sees the plainest of them, not all: L1 to L10, L12, L14 to L28 in part.
 Point 2 hangs on it, too: what draws from the package alone has no clock, chance or files.
 """
 
@@ -33,6 +33,15 @@ METHODS = set("""
     split splitlines startswith strip update upper values zfill bit_length
 """.split())
 PYTHONS = set(vars(builtins))
+# Python's own that are walked at once, what may walk them, and what may be called with which keywords.
+WALKED = ("zip", "enumerate", "reversed", "range")
+WALKED_METHODS = ("items", "keys", "values")
+WALKERS = ("list", "tuple", "dict", "sorted", "sum", "any", "all", "enumerate", "zip", "min", "max")
+KEYWORDS = {
+    "sorted": ("key", "reverse"), "min": ("key", "default"), "max": ("key", "default"), "sum": ("start",),
+    "enumerate": ("start",), "zip": ("strict",),
+}
+KINDS = ("int", "str", "bool", "list", "tuple", "dict")
 # The methods and values of Python's own kinds, and of them those that a method, or a value, may be called like.
 TAKEN = {name for kind in (str, int, list, tuple, dict, set, bytes) for name in dir(kind) if not name.startswith("__")}
 FREE_METHODS = METHODS | {"add", "discard"}
@@ -161,9 +170,83 @@ def handing_faults(tree):
                     yield f"L15 {node.id} is not only read"
 
 
+def is_walked(node):
+    if not isinstance(node, ast.Call):
+        return False
+    if isinstance(node.func, ast.Name):
+        return node.func.id in WALKED
+    return isinstance(node.func, ast.Attribute) and node.func.attr in WALKED_METHODS
+
+
+def walked_at_once(node, above):
+    if isinstance(above, (ast.For, ast.comprehension)):
+        return above.iter is node
+    if not isinstance(above, ast.Call) or not above.args or above.args[0] is not node:
+        # zip may walk several.
+        return isinstance(above, ast.Call) and isinstance(above.func, ast.Name) and above.func.id == "zip"
+    if isinstance(above.func, ast.Name):
+        return above.func.id in WALKERS
+    return isinstance(above.func, ast.Attribute) and above.func.attr == "join" and isinstance(above.func.value, ast.Constant)
+
+
+def is_set(node):
+    if isinstance(node, ast.Call):
+        return isinstance(node.func, ast.Name) and node.func.id in ("set", "frozenset")
+    return isinstance(node, ast.Set)
+
+
+def set_beside(above):
+    if isinstance(above, ast.Call):
+        return isinstance(above.func, ast.Name) and above.func.id in ("sorted", "len") and not above.keywords
+    return isinstance(above, (ast.Compare, ast.BinOp))
+
+
+def kept_as_a_value(node, above):
+    """Whether the name node, of a function of Python's own, is not called but kept."""
+    if isinstance(above, ast.Call):
+        return above.func is not node and not (isinstance(above.func, ast.Name) and above.func.id == "isinstance")
+    return not isinstance(above, (ast.keyword, ast.Raise, ast.ExceptHandler, ast.ClassDef, ast.Tuple))
+
+
+def use_faults(tree):
+    for above in ast.walk(tree):
+        for node in ast.iter_child_nodes(above):
+            if is_walked(node) and not walked_at_once(node, above):
+                yield "L23 not walked at once"
+            if is_set(node) and not set_beside(above):
+                yield "L24 a set that is kept"
+            if isinstance(node, ast.Name) and node.id in BUILTINS and kept_as_a_value(node, above):
+                yield f"L22 {node.id} is kept"
+
+
+def call_faults(node):
+    if isinstance(node, ast.Call) and node.keywords:
+        name = node.func.id if isinstance(node.func, ast.Name) else ""
+        told = KEYWORDS.get(name, ())
+        if (name in BUILTINS or not name) and any(keyword.arg not in told for keyword in node.keywords):
+            yield f"L22 a keyword at {name}"
+    if isinstance(node, ast.Call) and isinstance(node.func, ast.Name) and node.func.id == "isinstance":
+        kinds = node.args[1].elts if isinstance(node.args[1], ast.Tuple) else [node.args[1]]
+        if not all(isinstance(kind, ast.Name) and (kind.id in KINDS or kind.id not in PYTHONS) for kind in kinds):
+            yield "L22 isinstance"
+
+
+def error_faults(node):
+    if isinstance(node, ast.ExceptHandler):
+        names = node.type.elts if isinstance(node.type, ast.Tuple) else [node.type]
+        if not all(isinstance(name, ast.Name) and name.id not in ("Exception", "TypeError") for name in names):
+            yield "L19 an error that is not taken by its name"
+    if isinstance(node, ast.Raise) and not isinstance(node.exc, ast.Call):
+        yield "L19 an error that is not made on the spot"
+    if isinstance(node, ast.FunctionDef) and node.name == "__init__":
+        if any(isinstance(part, ast.Return) and part.value is not None for part in ast.walk(node)):
+            yield "L28 __init__ gives something back"
+
+
 def tree_faults(text, methods):
     tree = ast.parse(text)
     yield from handing_faults(tree)
+    yield from use_faults(tree)
     body = tree.body
     if ast.get_docstring(tree) is not None:
         body = body[1:]
@@ -181,6 +264,8 @@ def tree_faults(text, methods):
         if isinstance(node, ast.ClassDef):
             yield from class_faults(node)
         yield from name_faults(node, methods)
+        yield from call_faults(node)
+        yield from error_faults(node)
 
 
 def faults(text, methods=()):
@@ -289,6 +374,14 @@ class Sight(unittest.TestCase):
             ("L17", "# its type\n"), ("L20", "def f(a, b):\n    return a is b\n"),
             ("L21", "def f(a: int):\n    return a\n"), ("L25", "def f(a):\n    a.sort()\n"),
             ("L27", "def f(a, b):\n    return a ** b\n"), ("L27", "X = 'a % b'\n"),
+            ("L19", "def f(a):\n    try:\n        a()\n    except Exception:\n        pass\n"),
+            ("L19", "def f(a):\n    try:\n        a()\n    except:\n        pass\n"), ("L19", "def f(a):\n    raise a\n"),
+            ("L22", "def f(a):\n    return a(len)\n"), ("L22", "def f(a):\n    b = min\n"),
+            ("L22", "def f(a):\n    return isinstance(a, set)\n"), ("L22", "def f(a):\n    return int(a, base=2)\n"),
+            ("L23", "def f(a):\n    return range(a)\n"), ("L23", "def f(a):\n    for b in reversed(range(a)):\n        a(b)\n"),
+            ("L23", "def f(a):\n    b = a.items()\n"), ("L24", "def f(a):\n    b = set(a)\n"),
+            ("L24", "def f(a):\n    for b in {1, a}:\n        a(b)\n"),
+            ("L28", "class A:\n    def __init__(self):\n        return None\n"),
         )
         for rule, text in broken:
             with self.subTest(text=text[:40]):
@@ -297,6 +390,11 @@ class Sight(unittest.TestCase):
     def test_plain_code_is_let_through(self):
         text = '"""A file."""\n\nfrom boxnarrow.errors import NoRow\n\n\ndef f(a):\n    if a is None:\n' \
                '        raise NoRow("none")\n    return [x ** 2 for x in sorted(a) if x > 0]\n'
+        self.assertEqual(faults(text), [])
+
+    def test_walks_and_sets_on_the_spot(self):
+        text = 'def f(a):\n    for b, c in enumerate(zip(a, range(9))):\n        a(b, c)\n' \
+               '    return ["".join(reversed(a)), list(a.items()), len(set(a)), a in set(a), sorted(a, key=len)]\n'
         self.assertEqual(faults(text), [])
 
     def test_lists_of_the_top_may_be_read(self):

@@ -1,0 +1,51 @@
+"""Nets, boxes and points by chance, each time the same for the same seed."""
+
+from fractions import Fraction
+
+from tests.otherwise import weight_otherwise
+
+GRIDS = (1, 2, 7, 64, 1000000)
+FIFTEEN = 10 ** 14 + 7
+NUMBERS = ((0, 1), (1, 1), (-1, 1), (2, 1), (-3, 1), (1, 2), (-2, 3), (7, 5), (22, 7), (999999999, 999999998))
+
+
+def node_by_chance(chance, unknowns, stand):
+    """A node for a net of so many unknowns in which so many nodes stand."""
+    kind = chance.choice(("number", "unknown", "plus", "minus", "times", "times", "power"))
+    if kind == "unknown":
+        return ("unknown", chance.randrange(unknowns))
+    if kind == "number" or stand == 0:
+        return ("number", *chance.choice(NUMBERS))
+    if kind == "power":
+        return ("power", chance.randrange(stand), chance.randint(2, 6))
+    return (kind, chance.randrange(stand), chance.randrange(stand))
+
+
+def net_by_chance(chance, unknowns, most=14, weight=16):
+    """A net of one to most nodes, each of at most that weight; perhaps it has not all of the unknowns."""
+    nodes = []
+    for time in range(chance.randint(1, most)):
+        node = node_by_chance(chance, unknowns, len(nodes))
+        if node not in nodes and weight_otherwise(nodes + [node], len(nodes)) <= weight:
+            nodes.append(node)
+    return nodes
+
+
+def box_by_chance(chance, many, far):
+    return [tuple(sorted(chance.randint(-far, far) for end in range(2))) for span in range(many)]
+
+
+def point_by_chance(chance, box, grid):
+    """A point of the box: for each unknown at an end, on a step, or anywhere between the ends."""
+    point = []
+    for low, high in box:
+        places = (low, high, chance.randint(low, high), low + (high - low) * Fraction(chance.randint(0, 99), 99))
+        point.append((Fraction(chance.choice(places)) / grid).as_integer_ratio())
+    return point
+
+
+def asked_by_chance(chance, weight=16):
+    """A net, a box and a grid, near nought or with ends of up to fifteen figures."""
+    many = chance.randint(1, 4)
+    nodes = net_by_chance(chance, many, weight=weight)
+    return nodes, box_by_chance(chance, many, chance.choice((3, 100, FIFTEEN))), chance.choice(GRIDS)
