@@ -1,8 +1,8 @@
-"""The kinds of nodes: what each makes of its parts, and what the way back makes of them."""
+"""The kinds of nodes: what each makes of its parts, what the way back makes of them, and the slope for each unknown."""
 
 from boxnarrow.backs import back_power, back_times
 from boxnarrow.fractions import minus, plus, power, times
-from boxnarrow.spans import add_spans, common, mul_spans, raise_span, span_of, take_spans
+from boxnarrow.spans import add_spans, common, mul_spans, raise_span, scale_span, span_of, take_spans
 
 
 class Node:
@@ -24,6 +24,9 @@ class Number(Node):
     def back(self, spans, here, grid):
         return []
 
+    def slope(self, spans, slants, unknowns, grid):
+        return [(0, 0)] * unknowns
+
 
 class Unknown(Node):
     def __init__(self, place):
@@ -37,6 +40,9 @@ class Unknown(Node):
 
     def back(self, spans, here, grid):
         return []
+
+    def slope(self, spans, slants, unknowns, grid):
+        return [(grid, grid) if k == self.place else (0, 0) for k in range(unknowns)]
 
 
 class Pair(Node):
@@ -55,6 +61,11 @@ class Pair(Node):
             return None
         return [(self.one, x), (self.other, y)]
 
+    def slope(self, spans, slants, unknowns, grid):
+        x = spans[self.one]
+        y = spans[self.other]
+        return [self.slope_of_both(x, y, a, b, grid) for a, b in zip(slants[self.one], slants[self.other])]
+
 
 class Plus(Pair):
     def exact(self, worths, point):
@@ -68,6 +79,9 @@ class Plus(Pair):
 
     def second_left(self, here, x, y, grid):
         return common(y, take_spans(here, x))
+
+    def slope_of_both(self, x, y, a, b, grid):
+        return add_spans(a, b)
 
 
 class Minus(Pair):
@@ -83,6 +97,9 @@ class Minus(Pair):
     def second_left(self, here, x, y, grid):
         return common(y, take_spans(x, here))
 
+    def slope_of_both(self, x, y, a, b, grid):
+        return take_spans(a, b)
+
 
 class Times(Pair):
     def exact(self, worths, point):
@@ -96,6 +113,9 @@ class Times(Pair):
 
     def second_left(self, here, x, y, grid):
         return back_times(here, y, x, grid)
+
+    def slope_of_both(self, x, y, a, b, grid):
+        return add_spans(mul_spans(x, b, grid), mul_spans(y, a, grid))
 
 
 class Power(Node):
@@ -114,6 +134,12 @@ class Power(Node):
         if x is None:
             return None
         return [(self.one, x)]
+
+    def slope(self, spans, slants, unknowns, grid):
+        # For a square this is the worth itself: no first power is rounded.
+        lower = raise_span(spans[self.one], self.many - 1, grid)
+        steep = scale_span(lower, self.many)
+        return [mul_spans(steep, a, grid) for a in slants[self.one]]
 
 
 def kind_of(node):

@@ -2,7 +2,7 @@
 
 from fractions import Fraction
 
-from tests.otherwise import weight_otherwise
+from tests.otherwise import exact_otherwise, node_in, weight_otherwise
 
 GRIDS = (1, 2, 7, 64, 1000000)
 FIFTEEN = 10 ** 14 + 7
@@ -49,3 +49,30 @@ def asked_by_chance(chance, weight=16):
     many = chance.randint(1, 4)
     nodes = net_by_chance(chance, many, weight=weight)
     return nodes, box_by_chance(chance, many, chance.choice((3, 100, FIFTEEN))), chance.choice(GRIDS)
+
+
+def bent_equation(chance, nodes, k, point):
+    """Puts an equation to nodes that is met at the point: mostly the k-th unknown's, with some of the others."""
+    many = len(point)
+    unknowns = [node_in(nodes, ("unknown", place)) for place in range(many)]
+    total = None
+    for place in range(many):
+        factor = node_in(nodes, ("number", chance.choice((5, 7, -8)) if place == k else chance.choice((0, 1, -1)), 1))
+        term = node_in(nodes, ("times", factor, unknowns[place]))
+        total = term if total is None else node_in(nodes, ("plus", total, term))
+    bend = chance.choice((("power", chance.choice(unknowns), chance.randint(2, 3)), ("times", *chance.choices(unknowns, k=2))))
+    total = node_in(nodes, (chance.choice(("plus", "minus")), total, node_in(nodes, bend)))
+    there = node_in(nodes, ("number", *exact_otherwise(nodes, total, point).as_integer_ratio()))
+    return node_in(nodes, ("minus", total, there))
+
+
+def bent_by_chance(chance, wide):
+    """A net, equations that are met at a point, a box of at most so many steps on each side of it, a grid, the point."""
+    many = chance.randint(1, 4)
+    grid = chance.choice((64, 1000, 1000000))
+    centre = [chance.randint(-grid, grid) // chance.choice((1, 2, 8)) for k in range(many)]
+    point = [Fraction(place, grid).as_integer_ratio() for place in centre]
+    nodes = []
+    rows = [("zero", bent_equation(chance, nodes, k, point)) for k in range(many)]
+    box = [(place - chance.randint(0, wide), place + chance.randint(0, wide)) for place in centre]
+    return nodes, rows, box, grid, point

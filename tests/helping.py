@@ -1,6 +1,7 @@
 """What several tests ask for."""
 
 from boxnarrow import errors
+from boxnarrow.tasks import read
 
 REFUSALS = (
     errors.NoNumber, errors.NoSpan, errors.NoCut, errors.NoRow,
@@ -71,3 +72,35 @@ def check_tuples(case, value):
     for part in value:
         case.assertIs(type(part), tuple)
         case.assertEqual([type(piece) for piece in part], [str] + [int] * (len(part) - 1))
+
+
+def told(*lines):
+    """The net and the rows of a task whose unknowns are x, y, z and u, as far as lines name them."""
+    words = " ".join(lines).split(" ")
+    names = "xyzu"[:max("xyzu".find(word) for word in words if len(word) == 1) + 1]
+    task = read([f"{name} in 0 1" for name in names] + list(lines))
+    return task.nodes(), task.rows()
+
+
+def copied(matrix):
+    return [list(row) for row in matrix]
+
+
+def check_rows(case, value, many, check_row):
+    """Fails unless value is a list of so many lists, each by itself, that check_row lets through."""
+    case.assertIs(type(value), list)
+    case.assertEqual(len(value), many)
+    case.assertEqual(len({id(row) for row in value}), many)
+    for row in value:
+        case.assertIs(type(row), list)
+        check_row(row)
+
+
+def check_matrix(case, value, many):
+    """Fails unless value is a matrix of so many rows and columns."""
+    check_rows(case, value, many, lambda row: case.assertEqual([is_int(entry) for entry in row], [True] * many))
+
+
+def check_slopes(case, value, nodes, many):
+    """Fails unless value is a list of lists of spans, one list for each node, of so many spans each."""
+    check_rows(case, value, nodes, lambda row: check_spans(case, row, many))

@@ -2,10 +2,13 @@
 
 import re
 from fractions import Fraction
-from math import ceil, floor, gcd
+from itertools import permutations
+from math import ceil, floor, gcd, prod
+from operator import add, mul, sub
 
 KINDS = {"+": "plus", "-": "minus", "*": "times"}
 KEPT = ("let", "in", "grid", "fine", "looks", "solve", "boxes", "point", "right", "islands")
+MAKERS = {"plus": add, "minus": sub, "times": mul}
 NUMBER = re.compile(r"(?P<top>0|-?[1-9][0-9]{0,8})(/(?P<bottom>[1-9][0-9]{0,8}))?")
 NAME = re.compile(r"[a-z]{1,8}")
 
@@ -176,12 +179,7 @@ def forth_otherwise(node, spans, box, grid):
         powers = [end ** parts[1] for end in first]
         return outward(powers + [0] * (first[0] < 0 < first[1]), grid)
     second = [Fraction(end, grid) for end in spans[parts[1]]]
-    made = {
-        "plus": [a + b for a in first for b in second],
-        "minus": [a - b for a in first for b in second],
-        "times": [a * b for a in first for b in second],
-    }
-    return outward(made[kind], grid)
+    return outward([MAKERS[kind](a, b) for a in first for b in second], grid)
 
 
 def worths_otherwise(nodes, box, grid):
@@ -202,7 +200,7 @@ def exact_otherwise(nodes, at, point):
     if kind == "power":
         return first ** parts[1]
     second = exact_otherwise(nodes, parts[1], point)
-    return {"plus": first + second, "minus": first - second, "times": first * second}[kind]
+    return MAKERS[kind](first, second)
 
 
 # The way back, by asking of each place where what is left could begin or end whether it is one that is left.
@@ -295,3 +293,123 @@ def narrowed_otherwise(nodes, row, box, grid):
         spans = [dict(made).get(place, span) for place, span in enumerate(spans)]
     places = {node[1]: number for number, node in enumerate(nodes[:at + 1]) if node[0] == "unknown"}
     return [spans[places[k]] if k in places else span for k, span in enumerate(box)]
+
+
+# Shaves, with the worths and the narrowed box that are reckoned otherwise.
+
+
+def barred_otherwise(nodes, row, box, grid):
+    low, high = worths_otherwise(nodes, box, grid)[row[1]]
+    return high < 0 or row[0] == "zero" and low > 0
+
+
+def shaves_otherwise(nodes, row, box, grid):
+    if barred_otherwise(nodes, row, box, grid):
+        return [], None
+    wished = narrowed_otherwise(nodes, row, box, grid)
+    cuts, left = [], dict(enumerate(box))
+    for k, (low, high) in enumerate(wished or []):
+        for side, place in enumerate((low - 1, high + 1)):
+            parts = [(left[k][0], place), (place, left[k][1])]
+            part = {**left, k: parts[side]}
+            if parts[side][0] < parts[side][1] and barred_otherwise(nodes, row, list(part.values()), grid):
+                cuts.append((k, place, side))
+                left[k] = parts[1 - side]
+    return cuts, list(left.values())
+
+
+# Slopes, each node's for each unknown by itself, from the node down to its parts.
+
+
+def made(kind, a, b, grid):
+    """The sums, differences or products of two spans."""
+    return forth_otherwise((kind, 0, 1), [a, b], [], grid)
+
+
+def slope_otherwise(nodes, at, k, spans, grid):
+    kind, *parts = nodes[at]
+    if kind in ("number", "unknown"):
+        return (grid, grid) if nodes[at] == ("unknown", k) else (0, 0)
+    a = slope_otherwise(nodes, parts[0], k, spans, grid)
+    x = spans[parts[0]]
+    if kind == "power":
+        lower = x if parts[1] == 2 else forth_otherwise(("power", 0, parts[1] - 1), [x], [], grid)
+        return made("times", (lower[0] * parts[1], lower[1] * parts[1]), a, grid)
+    b = slope_otherwise(nodes, parts[1], k, spans, grid)
+    if kind == "times":
+        return made("plus", made("times", x, b, grid), made("times", spans[parts[1]], a, grid), grid)
+    return made(kind, a, b, grid)
+
+
+def slopes_otherwise(nodes, box, grid, places=None):
+    """The slopes of the nodes with these numbers, or of all."""
+    spans = worths_otherwise(nodes, box, grid)
+    places = range(len(nodes)) if places is None else places
+    return [[slope_otherwise(nodes, at, k, spans, grid) for k in range(len(box))] for at in places]
+
+
+# Matrices: the determinant as the sum over all orders, the inverse by turning the rows into those of 1 and 0.
+
+
+def determinant_otherwise(matrix):
+    total = 0
+    for order in permutations(range(len(matrix))):
+        turned = sum(order[a] > order[b] for b in range(len(order)) for a in range(b))
+        total += (-1) ** turned * prod(row[column] for row, column in zip(matrix, order))
+    return total
+
+
+def inverse_otherwise(matrix, grid):
+    many = len(matrix)
+    rows = [[Fraction(entry, grid) for entry in row] + [Fraction(k == j) for j in range(many)] for k, row in enumerate(matrix)]
+    for column in range(many):
+        found = [k for k in range(column, many) if rows[k][column] != 0]
+        if not found:
+            return None
+        rows[column], rows[found[0]] = rows[found[0]], rows[column]
+        rows[column] = [entry / rows[column][column] for entry in rows[column]]
+        for k in set(range(many)) - {column}:
+            rows[k] = [entry - rows[k][column] * above for entry, above in zip(rows[k], rows[column])]
+    return [[floor(entry * grid) for entry in row[many:]] for row in rows]
+
+
+# The step, end by end.
+
+
+def step_otherwise(nodes, rows, box, grid, turn):
+    places = [at for word, at in rows if word == "zero"]
+    centre = [floor(Fraction(sum(span), 2)) for span in box]
+    thin = worths_otherwise(nodes, [(place, place) for place in centre], grid)
+    steep = slopes_otherwise(nodes, box, grid, places)
+    near = []
+    for k, entries in enumerate(turn):
+        terms = [made("times", (entry, entry), thin[at], grid) for entry, at in zip(entries, places)]
+        low = centre[k] - sum(term[1] for term in terms)
+        high = centre[k] - sum(term[0] for term in terms)
+        for other, span in enumerate(box):
+            terms = [made("times", (entry, entry), slope[other], grid) for entry, slope in zip(entries, steep)]
+            whole = grid if k == other else 0
+            lack = (whole - sum(term[1] for term in terms), whole - sum(term[0] for term in terms))
+            term = made("times", lack, (span[0] - centre[other], span[1] - centre[other]), grid)
+            low, high = low + term[0], high + term[1]
+        near.append((low, high))
+    return near
+
+
+def alone_otherwise(nodes, rows, box, grid):
+    spans = worths_otherwise(nodes, box, grid)
+    places = [at for word, at in rows if word == "zero"]
+    if len(places) != len(box) or any(word == "least" and spans[at][0] < 0 for word, at in rows):
+        return None
+    steep = slopes_otherwise(nodes, box, grid, places)
+    turn = inverse_otherwise([[floor(Fraction(sum(span), 2)) for span in slope] for slope in steep], grid)
+    if turn is None:
+        return None
+    near = step_otherwise(nodes, rows, box, grid, turn)
+    within = [old[0] < new[0] <= new[1] < old[1] for new, old in zip(near, box)]
+    return (turn, near) if all(within) else None
+
+
+def closer_otherwise(nodes, rows, box, grid, rounds):
+    found = alone_otherwise(nodes, rows, box, grid) if rounds > 0 else None
+    return list(box) if found is None else closer_otherwise(nodes, rows, found[1], grid, rounds - 1)

@@ -3,7 +3,9 @@
 import inspect
 import unittest
 
-from boxnarrow import backs, errors, fractions, grammar, kinds, narrow, nets, spans, tasks, words, worths
+from boxnarrow import (
+    alone, backs, errors, fractions, grammar, kinds, matrices, narrow, nets, shaving, sloping, spans, tasks, words, worths,
+)
 
 OF_A_NODE = (
     ("exact", ["self", "worths", "point"]), ("forth", ["self", "spans", "box", "grid"]),
@@ -41,6 +43,13 @@ ARGUMENTS = (
         ("bars", ["word", "span"]), ("sure", ["word", "span"]),
     )),
     (narrow, (("narrowed", ["nodes", "row", "box", "grid"]),)),
+    (shaving, (("shaves", ["nodes", "row", "box", "grid"]),)),
+    (sloping, (("slopes", ["nodes", "box", "grid"]),)),
+    (matrices, (("determinant", ["matrix"]), ("inverse", ["matrix", "grid"]))),
+    (alone, (
+        ("step", ["nodes", "rows", "box", "grid", "turn"]), ("alone", ["nodes", "rows", "box", "grid"]),
+        ("closer", ["nodes", "rows", "box", "grid", "rounds"]),
+    )),
 )
 
 
