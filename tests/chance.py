@@ -66,13 +66,31 @@ def bent_equation(chance, nodes, k, point):
     return node_in(nodes, ("minus", total, there))
 
 
-def bent_by_chance(chance, wide):
+def bent_by_chance(chance, wide, grids=(64, 1000, 1000000)):
     """A net, equations that are met at a point, a box of at most so many steps on each side of it, a grid, the point."""
     many = chance.randint(1, 4)
-    grid = chance.choice((64, 1000, 1000000))
+    grid = chance.choice(grids)
     centre = [chance.randint(-grid, grid) // chance.choice((1, 2, 8)) for k in range(many)]
     point = [Fraction(place, grid).as_integer_ratio() for place in centre]
     nodes = []
     rows = [("zero", bent_equation(chance, nodes, k, point)) for k in range(many)]
     box = [(place - chance.randint(0, wide), place + chance.randint(0, wide)) for place in centre]
     return nodes, rows, box, grid, point
+
+
+def rows_by_chance(chance, nodes, many):
+    return [(chance.choice(("zero", "least")), chance.randrange(len(nodes))) for time in range(many)]
+
+
+def searched_by_chance(chance, looks=(0, 1, 2, 5, 20)):
+    """What a search is told: a net, rows, a box, a grid, how wide a small box is, and how many looks there are."""
+    if chance.random() < 0.5:
+        many = chance.randint(1, 4)
+        nodes = net_by_chance(chance, many, weight=6)
+        rows = rows_by_chance(chance, nodes, chance.choice((0, 1, 1, 2, 2, 3, 12)))
+        box, grid = box_by_chance(chance, many, chance.choice((1, 5, 40))), chance.choice((1, 2, 7, 16))
+    else:
+        nodes, rows, box, grid, point = bent_by_chance(chance, chance.choice((2, 9, 60)), grids=(16, 64, 256))
+        rows += rows_by_chance(chance, nodes, chance.choice((0, 0, 0, 1, 2)))
+        chance.shuffle(rows)
+    return nodes, rows, box, grid, chance.choice((1, 1, 3, 10)), chance.choice(looks)

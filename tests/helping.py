@@ -1,5 +1,7 @@
 """What several tests ask for."""
 
+from copy import deepcopy
+
 from boxnarrow import errors
 from boxnarrow.tasks import read
 
@@ -104,3 +106,62 @@ def check_matrix(case, value, many):
 def check_slopes(case, value, nodes, many):
     """Fails unless value is a list of lists of spans, one list for each node, of so many spans each."""
     check_rows(case, value, nodes, lambda row: check_spans(case, row, many))
+
+
+def check_fate(case, fate, many):
+    """Fails unless fate is one of the six kinds of fates, for a box of so many spans."""
+    case.assertIs(type(fate), tuple)
+    case.assertIs(type(fate[0]), str)
+    word, *more = fate
+    if word == "cut":
+        case.assertEqual([is_int(part) for part in more], [True] * 4)
+    elif word == "out":
+        case.assertEqual([is_int(more[0]), len(more)], [True, 2])
+        check_spans(case, more[1], len(more[1]))
+    elif word == "full":
+        case.assertEqual(len(more), 1)
+        check_spans(case, more[0], len(more[0]))
+    elif word == "one":
+        turn, near, spans, thin, slopes = more
+        check_matrix(case, turn, many)
+        check_spans(case, near, many)
+        check_spans(case, spans, len(spans))
+        check_spans(case, thin, len(spans))
+        check_slopes(case, slopes, len(spans), many)
+    else:
+        case.assertIn(fate, (("small",), ("waits",)))
+
+
+def lists_in(value):
+    """All lists in a value, itself and those within lists and tuples too."""
+    found = [value] if isinstance(value, list) else []
+    if isinstance(value, (list, tuple)):
+        for part in value:
+            found += lists_in(part)
+    return found
+
+
+def check_own(case, value, *given):
+    """Fails unless no list of value is there twice, and none is one of those in given."""
+    ids = [id(part) for part in lists_in(value)]
+    case.assertEqual(len(ids), len(set(ids)))
+    case.assertEqual(set(ids) & {id(part) for part in lists_in(list(given))}, set())
+
+
+def check_book(case, book, many):
+    """Fails unless book is a list of entries with boxes of so many spans."""
+    case.assertIs(type(book), list)
+    for entry in book:
+        case.assertEqual([type(entry), len(entry)], [tuple, 2])
+        check_spans(case, entry[0], many)
+        check_fate(case, entry[1], many)
+    check_own(case, book)
+
+
+def unchanged(case, call, *given):
+    """What call(*given) answers; fails where it changes what is given, or answers with a list that was given."""
+    kept = deepcopy(given)
+    answer = call(*given)
+    case.assertEqual(given, kept)
+    check_own(case, answer, *given)
+    return answer

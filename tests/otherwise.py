@@ -376,14 +376,12 @@ def inverse_otherwise(matrix, grid):
 # The step, end by end.
 
 
-def step_otherwise(nodes, rows, box, grid, turn):
-    places = [at for word, at in rows if word == "zero"]
+def step_by_otherwise(box, grid, turn, thin, steep):
+    """The step of the equations' worths over the middles and of their slopes, whatever these are."""
     centre = [floor(Fraction(sum(span), 2)) for span in box]
-    thin = worths_otherwise(nodes, [(place, place) for place in centre], grid)
-    steep = slopes_otherwise(nodes, box, grid, places)
     near = []
     for k, entries in enumerate(turn):
-        terms = [made("times", (entry, entry), thin[at], grid) for entry, at in zip(entries, places)]
+        terms = [made("times", (entry, entry), span, grid) for entry, span in zip(entries, thin)]
         low = centre[k] - sum(term[1] for term in terms)
         high = centre[k] - sum(term[0] for term in terms)
         for other, span in enumerate(box):
@@ -394,6 +392,13 @@ def step_otherwise(nodes, rows, box, grid, turn):
             low, high = low + term[0], high + term[1]
         near.append((low, high))
     return near
+
+
+def step_otherwise(nodes, rows, box, grid, turn):
+    places = [at for word, at in rows if word == "zero"]
+    thin = worths_otherwise(nodes, [(sum(span) // 2,) * 2 for span in box], grid)
+    steep = slopes_otherwise(nodes, box, grid, places)
+    return step_by_otherwise(box, grid, turn, [thin[at] for at in places], steep)
 
 
 def alone_otherwise(nodes, rows, box, grid):

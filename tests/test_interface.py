@@ -4,7 +4,8 @@ import inspect
 import unittest
 
 from boxnarrow import (
-    alone, backs, errors, fractions, grammar, kinds, matrices, narrow, nets, shaving, sloping, spans, tasks, words, worths,
+    alone, backs, desk, errors, fractions, grammar, islands, kinds, looker, matrices, narrow, nets, search, shaving, sloping,
+    spans, tasks, words, worths,
 )
 
 OF_A_NODE = (
@@ -50,6 +51,16 @@ ARGUMENTS = (
         ("step", ["nodes", "rows", "box", "grid", "turn"]), ("alone", ["nodes", "rows", "box", "grid"]),
         ("closer", ["nodes", "rows", "box", "grid", "rounds"]),
     )),
+    (search, (
+        ("search", ["nodes", "rows", "box", "grid", "fine", "looks"]), ("leaf_of", ["book", "point", "grid"]),
+    )),
+    (looker, (
+        ("right_spans", ["nodes", "box", "grid", "spans"]), ("right_slopes", ["nodes", "box", "grid", "spans", "slopes"]),
+        ("right_book", ["nodes", "rows", "box", "grid", "book"]),
+    )),
+    (islands, (("told", ["book"]), ("counts", ["book"]), ("islands", ["boxes"]))),
+    (desk, (("Desk", []),)),
+    (desk.Desk, (("tell", ["self", "line"]),)),
 )
 
 

@@ -170,6 +170,20 @@ def handing_faults(tree):
                     yield f"L15 {node.id} is not only read"
 
 
+def naming_faults(tree):
+    """Parameters and locals that are called like a class or an import of their file."""
+    taken = {node.name for node in tree.body if isinstance(node, ast.ClassDef)}
+    for node in tree.body:
+        if isinstance(node, ast.ImportFrom):
+            taken |= {name.name for name in node.names}
+    for node in ast.walk(tree):
+        name = node.arg if isinstance(node, ast.arg) else None
+        if isinstance(node, ast.Name) and isinstance(node.ctx, ast.Store):
+            name = node.id
+        if name in taken:
+            yield f"L15 {name} is a class or an import"
+
+
 def is_walked(node):
     if not isinstance(node, ast.Call):
         return False
@@ -247,6 +261,7 @@ def tree_faults(text, methods):
     tree = ast.parse(text)
     yield from handing_faults(tree)
     yield from use_faults(tree)
+    yield from naming_faults(tree)
     body = tree.body
     if ast.get_docstring(tree) is not None:
         body = body[1:]
@@ -371,6 +386,9 @@ class Sight(unittest.TestCase):
             ("L10", "def f(a):\n" + "    a = a + 1\n" * 40), ("L14", "X = 1\t\n"), ("L15", "def f(id):\n    return 1\n"),
             ("L15", "X = {1: 2}\n\n\ndef f(a):\n    return a(X)\n"), ("L15", "X = [1]\n\n\ndef f(a):\n    return X\n"),
             ("L15", "X = [1]\n\n\ndef f(a):\n    X[0] = a\n"), ("L15", "X = [1]\n\n\ndef f(a):\n    X.append(a)\n"),
+            ("L15", "from boxnarrow.spans import hull\n\n\ndef f(a):\n    hull = a\n    return hull\n"),
+            ("L15", "from boxnarrow.spans import hull\n\n\ndef f(hull):\n    return hull\n"),
+            ("L15", "class A:\n    pass\n\n\ndef f(a):\n    return [A for A in a]\n"),
             ("L17", "# its type\n"), ("L20", "def f(a, b):\n    return a is b\n"),
             ("L21", "def f(a: int):\n    return a\n"), ("L25", "def f(a):\n    a.sort()\n"),
             ("L27", "def f(a, b):\n    return a ** b\n"), ("L27", "X = 'a % b'\n"),
